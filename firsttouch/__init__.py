@@ -1,0 +1,1 @@
+"""Firsttouch: imports put off to the first touch of a name."""
