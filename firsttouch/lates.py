@@ -4,6 +4,12 @@ from firsttouch.errors import BadPlace, OtherProgram
 from firsttouch.kinds import as_place
 
 
+def require_late(program, late):
+    """OtherProgram if a late set is not of this very library."""
+    if late.program != program:
+        raise OtherProgram()
+
+
 class Late:
     """Some places of a library, ascending. It does not change.
 
@@ -44,17 +50,13 @@ class Late:
         return len(self._places)
 
     def __or__(self, other):
-        self._require_same(other)
+        require_late(self.program, other)
         return Late(self.program, sorted(set(self._places) | set(other._places)))
 
     def __and__(self, other):
-        self._require_same(other)
+        require_late(self.program, other)
         return Late(self.program, sorted(set(self._places) & set(other._places)))
 
     def __sub__(self, other):
-        self._require_same(other)
+        require_late(self.program, other)
         return Late(self.program, sorted(set(self._places) - set(other._places)))
-
-    def _require_same(self, other):
-        if self.program != other.program:
-            raise OtherProgram()

@@ -20,7 +20,12 @@ def has_word(value, word):
 
 
 class Machine:
-    """A library that is run with a late set: its names, its table, and what was counted."""
+    """A library that is run with a late set: its names, its table, and what was counted.
+
+    Of the last deed it keeps the events, for each the rows that were being run
+    then, and the promises that were kept. Rows are pairs (module, path), the
+    outermost first.
+    """
 
     def __init__(self, program, late):
         self.program = program
@@ -31,6 +36,9 @@ class Machine:
         self.entered = []
         self.steps = 0
         self.events = []
+        self.scenes = []
+        self.kept = []
+        self.running = []
         self._keeping = {}
 
     def doubled(self):
@@ -43,8 +51,11 @@ class Machine:
         return other
 
     def answer(self, deed):
-        """Do a deed; its answer."""
+        """Do a deed; its answer. Behind it, the rows that are being run are those at its fault."""
         self.events = []
+        self.scenes = []
+        self.kept = []
+        self.running = []
         try:
             end = ("told", self._done(deed))
         except Fault as e:
@@ -83,6 +94,11 @@ class Machine:
             del self.present[module]
             raise
 
+    def tell(self, value):
+        """Let a value, shown, be an event."""
+        self.events.append(value)
+        self.scenes.append(list(self.running))
+
     def put(self, home, name, value):
         # The space is asked for anew each time: what ran before may have run the module anew.
         self.spaces[home][name] = value
@@ -112,6 +128,7 @@ class Machine:
         if touched in self._keeping:
             raise Fault(("ring", module, name))
         self._keeping[touched] = True
+        self.kept.append((module, name, list(self.running)))
         try:
             value = self.promised(promise)
         except Fault:
@@ -141,8 +158,11 @@ class Machine:
     def run_block(self, home, prefix):
         for path, row in self.program.block(home, prefix):
             self.steps += 1
+            self.running.append((home, path))
             action = ACTIONS[row[0]]
             action(self, home, path, row)
+            # Not behind a fault: where it came is told by the rows that are left here.
+            self.running.pop()
 
 
 def run_import(machine, home, path, row):
@@ -176,12 +196,12 @@ def run_drop(machine, home, path, row):
 
 
 def run_say(machine, home, path, row):
-    machine.events.append(row[1])
+    machine.tell(row[1])
 
 
 def run_tell(machine, home, path, row):
     value = machine.touch(home, row[1])
-    machine.events.append(value)
+    machine.tell(value)
 
 
 def run_seen(machine, home, path, row):
@@ -210,9 +230,11 @@ def run_when(machine, home, path, row):
 
 
 def run_try(machine, home, path, row):
+    depth = len(machine.running)
     try:
         machine.run_block(home, path + (0,))
     except Fault:
+        del machine.running[depth:]
         machine.run_block(home, path + (1,))
 
 

@@ -1,8 +1,9 @@
 """Worlds: libraries that are used by deeds."""
 
-from firsttouch.errors import BadDeed, BadWord, OtherProgram
-from firsttouch.kinds import as_deed, is_word
-from firsttouch.lates import Late
+from firsttouch.clients import taken_deed
+from firsttouch.errors import BadWord
+from firsttouch.kinds import is_word
+from firsttouch.lates import Late, require_late
 from firsttouch.machine import Machine
 
 
@@ -17,8 +18,7 @@ class World:
 
     def __init__(self, program, late=None):
         chosen = Late.empty(program) if late is None else late
-        if chosen.program != program:
-            raise OtherProgram()
+        require_late(program, chosen)
         self.program = program
         self.late = chosen
         self._machine = Machine(program, chosen)
@@ -40,10 +40,7 @@ class World:
         return self._machine.answer(("seen", module))
 
     def do(self, deed):
-        taken = as_deed(deed)
-        if taken is None:
-            raise BadDeed(deed)
-        return self._machine.answer(taken)
+        return self._machine.answer(taken_deed(deed))
 
     def table(self):
         return sorted(self._machine.present)

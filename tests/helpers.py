@@ -48,3 +48,20 @@ NO_WORDS = [
     None, True, False, 0, 5, '', 'A', 'aB', 'a1', 'a b', ' a', 'a\n', '_', '-',
     'abcdefghi', (), [], {}, ['a'], ('a',), {'a': 1}, [[]], {1: [2]},
 ]
+
+# Objects that are no eye, some of them nearly one.
+NO_EYES = [
+    None, True, False, 0, 1, '', 'All', 'all ', ' all', 'al', 'alll', 'bags', 'value', 'ALL', 'none',
+    ('all',), ['all'], ['bag', 'values'], {'all': 1}, {}, (), [], [[]], ('all', 'bag', 'values'),
+]
+
+
+def whole(text):
+    """The library of a text, and the late set of all its places."""
+    program = library(text)
+    return program, Late.whole(program)
+
+
+def shape(world):
+    """All that a world tells of itself."""
+    return (world.state(), world.table(), world.ran(), world.begun())

@@ -83,3 +83,67 @@ def random_deeds(chance, count):
         else:
             deeds.append((word, module))
     return deeds
+
+
+def lively_library(chance):
+    """A small library of few places in whose functions imports stand, so that deeds change much."""
+    modules = MODULES[:2]
+    left = [4]
+    library = {}
+    for module in modules:
+        rows = [lively_row(chance, modules, left) for _ in range(chance.randint(0, 2))]
+        for name in ('f', 'g')[:chance.randint(1, 2)]:
+            block = [lively_row(chance, modules, left) for _ in range(chance.randint(1, 2))]
+            rows.append(('make', name, block))
+        if chance.random() < 0.2:
+            rows.append(('try', [('call', 'f')], []))
+        library[module] = rows
+    return library
+
+
+def lively_row(chance, modules, left):
+    """A row that gives x or y something, or tells of it; an import only while places are left."""
+    name, other = chance.choice(['xy', 'yx'])
+    module = chance.choice(modules)
+    words = ['put', 'seen', 'seen', 'copy', 'tell', 'when'] + ['load', 'load', 'pick'] * (left[0] > 0)
+    word = chance.choice(words)
+    left[0] -= word in ('load', 'pick')
+    return {
+        'put': ('put', name, chance.randint(0, 1)), 'seen': ('seen', name, module),
+        'copy': ('try', [('copy', name, other)], []), 'tell': ('try', [('tell', name)], []),
+        'when': ('try', [('when', name, [('drop', name)], [('say', 3)])], []),
+        'load': ('load', name, module), 'pick': ('try', [('pick', name, module, other)], []),
+    }[word]
+
+
+def still_library(chance):
+    """A library as [32] tells: load, put and make rows, and few others in the blocks of make rows."""
+    modules = MODULES[:chance.randint(1, 3)]
+    left = [4]
+
+    def simple(name):
+        if left[0] > 0 and chance.random() < 0.5:
+            left[0] -= 1
+            return ('load', name, chance.choice(modules))
+        return ('put', name, chance.randint(0, 2))
+
+    def inner(depth):
+        name, other = chance.choice(NAMES[:3]), chance.choice(NAMES[:3])
+        word = chance.choice(['import', 'copy', 'part', 'drop', 'say', 'tell', 'fail', 'when', 'try'])
+        if word in ('when', 'try') and depth == 3:
+            word = 'tell'
+        if word == 'when':
+            return ('when', name, [inner(depth + 1)], [inner(depth + 1)])
+        if word == 'try':
+            return ('try', [inner(depth + 1), inner(depth + 1)], [inner(depth + 1)])
+        rows = {'copy': ('copy', name, other), 'part': ('part', name, other, chance.choice(NAMES)),
+                'drop': ('drop', name), 'say': ('say', 1), 'tell': ('tell', name), 'fail': ('fail', 2)}
+        return rows.get(word) or simple(name)
+
+    library = {}
+    for module in modules:
+        rows = [simple(chance.choice(NAMES[:3])) for _ in range(chance.randint(0, 3))]
+        if chance.random() < 0.8:
+            rows.append(('make', 'f', [inner(2) for _ in range(chance.randint(1, 3))]))
+        library[module] = rows
+    return library

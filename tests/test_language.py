@@ -7,7 +7,7 @@ import pathlib
 import re
 import unittest
 
-from firsttouch import lates, programs, worlds
+from firsttouch import lates, parting, programs, rings, sets, stories, worlds
 
 PACKAGE = pathlib.Path(__file__).resolve().parent.parent / 'firsttouch'
 FILES = sorted(path for path in PACKAGE.rglob('*') if '__pycache__' not in path.parts)
@@ -43,6 +43,23 @@ INTERFACE = {
         'begun': [], 'twin': [], 'state': [],
     },
 }
+OPTIONS = ['eye', 'table', 'most']
+FUNCTIONS = {
+    parting.parting: ['one', 'other', *OPTIONS],
+    parting.notice: ['program', 'late', *OPTIONS],
+    parting.paper: ['program', 'late', *OPTIONS],
+    parting.paper_holds: ['program', 'late', 'paper', 'eye', 'table'],
+    parting.warm_up: ['one', 'other', *OPTIONS],
+    stories.story: ['program', 'late', 'client'],
+    stories.touches: ['program', 'late', 'client'],
+    sets.classes: ['program', *OPTIONS],
+    sets.hidden: ['program', *OPTIONS],
+    sets.greatest: ['program', *OPTIONS],
+    sets.nearest: ['program', 'late', *OPTIONS],
+    sets.quickest: ['program', 'clients', *OPTIONS],
+    rings.rings: ['program'],
+}
+DEFAULTS = {'eye': 'all', 'table': False, 'most': 100}
 CLASS_METHODS = {'read', 'whole', 'empty', 'of'}
 
 
@@ -181,6 +198,26 @@ class TestInterface(unittest.TestCase):
     def test_classes_stand_in_their_file(self):
         self.assertEqual([cls.__module__ for cls in INTERFACE],
                          ['firsttouch.programs', 'firsttouch.lates', 'firsttouch.worlds'])
+
+    def test_functions(self):
+        for function, names in FUNCTIONS.items():
+            parameters = inspect.signature(function).parameters
+            self.assertEqual(list(parameters), names, function)
+            for name, parameter in parameters.items():
+                if name in DEFAULTS:
+                    self.assertEqual(parameter.kind, parameter.KEYWORD_ONLY)
+                    self.assertEqual(parameter.default, DEFAULTS[name])
+                else:
+                    self.assertEqual(parameter.kind, parameter.POSITIONAL_OR_KEYWORD)
+                    self.assertIs(parameter.default, parameter.empty)
+
+    def test_functions_stand_in_their_file(self):
+        for module in (parting, stories, sets, rings):
+            for function in FUNCTIONS:
+                if hasattr(module, function.__name__):
+                    self.assertEqual(function.__module__, module.__name__)
+        self.assertEqual([function.__module__.split('.')[1] for function in FUNCTIONS],
+                         ['parting'] * 5 + ['stories'] * 2 + ['sets'] * 5 + ['rings'])
 
 
 if __name__ == '__main__':
